@@ -7,32 +7,15 @@ import (
 	"testing"
 
 	"cambium/api"
+	"cambium/lent"
 	"cambium/num"
 )
 
-// roomy is a slice with spare capacity, which no call may write into.
-func roomy(s string) []byte {
-	b := make([]byte, len(s)+16)
-	for i := range b {
-		b[i] = 0xa5
-	}
-	copy(b, s)
-	return b[:len(s)]
-}
-
-// untouched tells of a roomy slice that is no longer what it was.
+// untouched tells of what was handed in and is no longer what it was.
 func untouched(t *testing.T, what string, b []byte, s string) {
 	t.Helper()
-	if want := roomy(s); !bytes.Equal(b[:cap(b)], want[:cap(want)]) {
+	if !lent.Untouched(b, s) {
 		t.Errorf("%s: what was handed in became %x", what, b[:cap(b)])
-	}
-}
-
-// scribble writes over all that an answer can reach, so that shared memory shows.
-func scribble(b []byte) {
-	b = b[:cap(b)]
-	for i := range b {
-		b[i] ^= 0x5a
 	}
 }
 
@@ -312,22 +295,22 @@ func TestWhatIsCutIsShort(t *testing.T) {
 
 func TestPutLeavesWhatIsHandedIn(t *testing.T) {
 	for _, n := range []int{-1, 0, 1, 7, 8, 9} {
-		b := roomy("abc")
+		b := lent.Bytes("abc")
 		got := num.Put(b, 258, n)
 		untouched(t, "Put", b, "abc")
-		scribble(got)
+		lent.Scribble(got)
 		untouched(t, "Put's answer", b, "abc")
 	}
-	b, x := roomy("abc"), roomy("xyz")
+	b, x := lent.Bytes("abc"), lent.Bytes("xyz")
 	got, _ := num.PutBytes(b, x)
 	untouched(t, "PutBytes, ahead", b, "abc")
 	untouched(t, "PutBytes, behind", x, "xyz")
-	scribble(got)
+	lent.Scribble(got)
 	untouched(t, "PutBytes' answer, ahead", b, "abc")
 	untouched(t, "PutBytes' answer, behind", x, "xyz")
 	got, _ = num.PutText(b, "xyz")
 	untouched(t, "PutText", b, "abc")
-	scribble(got)
+	lent.Scribble(got)
 	untouched(t, "PutText's answer", b, "abc")
 	num.PutText(b, strings.Repeat("x", 256))
 	num.PutBytes(b, make([]byte, 65536))
@@ -336,22 +319,22 @@ func TestPutLeavesWhatIsHandedIn(t *testing.T) {
 
 func TestTakeLeavesWhatIsHandedIn(t *testing.T) {
 	const s = "\x00\x01abcd"
-	b := roomy(s)
+	b := lent.Bytes(s)
 	_, rest, _ := num.Take(b, 2)
 	untouched(t, "Take", b, s)
-	scribble(rest)
+	lent.Scribble(rest)
 	untouched(t, "Take's answer", b, s)
 	_, rest, _ = num.TakeText(b)
 	untouched(t, "TakeText", b, s)
-	scribble(rest)
+	lent.Scribble(rest)
 	untouched(t, "TakeText's answer", b, s)
 	x, rest, _ := num.TakeBytes(b)
 	untouched(t, "TakeBytes", b, s)
-	scribble(x)
+	lent.Scribble(x)
 	if string(rest) != "bcd" {
 		t.Errorf("the two answers of TakeBytes share memory: %x", rest)
 	}
-	scribble(rest)
+	lent.Scribble(rest)
 	untouched(t, "TakeBytes' answer", b, s)
 	num.Take(b, 8)
 	num.TakeText([]byte(s)[1:2])
@@ -359,7 +342,7 @@ func TestTakeLeavesWhatIsHandedIn(t *testing.T) {
 }
 
 func TestAnswersAreKeptFromLaterChanges(t *testing.T) {
-	b, x, c := roomy("\x00\x01abcd"), roomy("xyz"), roomy("\x02abcd")
+	b, x, c := lent.Bytes("\x00\x01abcd"), lent.Bytes("xyz"), lent.Bytes("\x02abcd")
 	put := num.Put(b, 7, 1)
 	same := num.Put(b, 7, 0)
 	text, _ := num.PutText(b, "q")
@@ -368,9 +351,9 @@ func TestAnswersAreKeptFromLaterChanges(t *testing.T) {
 	took, behind, _ := num.TakeBytes(b)
 	s, after, _ := num.TakeText(c)
 	one, _, _ := num.TakeText(b[1:])
-	scribble(b)
-	scribble(x)
-	scribble(c)
+	lent.Scribble(b)
+	lent.Scribble(x)
+	lent.Scribble(c)
 	for i, y := range [][2]string{
 		{string(put), "\x00\x01abcd\x07"}, {string(same), "\x00\x01abcd"}, {string(text), "\x00\x01abcd\x01q"},
 		{string(list), "\x00\x01abcd\x00\x03xyz"}, {string(rest), "abcd"}, {string(took), "a"},

@@ -6,6 +6,7 @@ import (
 	"strings"
 	"testing"
 
+	"cambium/lent"
 	"cambium/sum"
 )
 
@@ -43,16 +44,6 @@ func starts() []uint32 {
 		all = append(all, 1<<bit, math.MaxUint32^1<<bit)
 	}
 	return all
-}
-
-// roomy is a slice with spare capacity, which no call may write into.
-func roomy(s string) []byte {
-	b := make([]byte, len(s)+16)
-	for i := range b {
-		b[i] = 0xa5
-	}
-	copy(b, s)
-	return b[:len(s)]
 }
 
 // P2.1
@@ -209,18 +200,18 @@ func TestTheSameAgain(t *testing.T) {
 
 func TestWhatIsHandedInStaysAsItWas(t *testing.T) {
 	for _, s := range []string{"", "a", "123456789", string(mixed(252))} {
-		b, want := roomy(s), roomy(s)
+		b := lent.Bytes(s)
 		sum.Sum(b)
 		sum.More(0, b)
 		sum.More(math.MaxUint32, b)
-		if !bytes.Equal(b[:cap(b)], want[:cap(want)]) {
-			t.Errorf("%q became %q", want[:cap(want)], b[:cap(b)])
+		if !lent.Untouched(b, s) {
+			t.Errorf("%q became %q", s, b[:cap(b)])
 		}
 	}
 }
 
 func TestSpareCapacityIsNotSummed(t *testing.T) {
-	b := roomy("123456789")
+	b := lent.Bytes("123456789")
 	if got := sum.Sum(b); got != 0xe3069283 {
 		t.Errorf("%08x", got)
 	}
